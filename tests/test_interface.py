@@ -1,0 +1,81 @@
+"""Every name, argument and default of the interface's sections that have landed."""
+
+import importlib
+import inspect
+import unittest
+
+CONSTANTS = {"nets": {"MOST_PONDS": 12, "MOST_BRIM": 60, "BRIM": 4, "WIDTH": 1}}
+
+FUNCTIONS = {
+    "nets": {"is_name": "(thing)"},
+    "outlets": {
+        "way_out": "(net, name)",
+        "with_brim": "(net, name, brim)",
+        "with_pipe": "(net, one, other, *, width=1)",
+        "without_pipe": "(net, one, other)",
+        "with_pond": "(net, name, *, brim=4)",
+        "without_pond": "(net, name)",
+    },
+}
+
+METHODS = {
+    ("nets", "Net"): {
+        "__init__": "(self, brims, pipes=None)",
+        "ponds": "(self)",
+        "brim": "(self, name)",
+        "soaks": "(self, name)",
+        "width": "(self, one, other)",
+        "outs": "(self, name)",
+        "ins": "(self, name)",
+        "brims": "(self)",
+        "pipes": "(self)",
+        "__eq__": "(self, other)",
+        "__len__": "(self)",
+        "__repr__": "(self)",
+    },
+    ("stands", "Stand"): {
+        "__init__": "(self, net, poured=None, counts=None)",
+        "net": "(self)",
+        "poured": "(self, name)",
+        "count": "(self, name)",
+        "water": "(self, name)",
+        "pours": "(self)",
+        "counts": "(self)",
+        "waters": "(self)",
+        "__eq__": "(self, other)",
+        "__repr__": "(self)",
+    },
+}
+
+
+def module(name):
+    return importlib.import_module(f"backwater.{name}")
+
+
+class InterfaceTest(unittest.TestCase):
+    def test_constants(self):
+        for file, constants in CONSTANTS.items():
+            for name, worth in constants.items():
+                with self.subTest(name):
+                    self.assertIs(getattr(module(file), name).__class__, int)
+                    self.assertEqual(getattr(module(file), name), worth)
+
+    def test_functions_have_the_arguments_told(self):
+        for file, functions in FUNCTIONS.items():
+            for name, arguments in functions.items():
+                with self.subTest(name):
+                    function = getattr(module(file), name)
+                    self.assertEqual(str(inspect.signature(function)), arguments)
+                    self.assertEqual(function.__module__, f"backwater.{file}")
+
+    def test_methods_stand_in_their_class_with_the_arguments_told(self):
+        for (file, name), methods in METHODS.items():
+            owner = getattr(module(file), name)
+            for method, arguments in methods.items():
+                with self.subTest(owner=name, method=method):
+                    self.assertIn(method, vars(owner))
+                    self.assertEqual(str(inspect.signature(vars(owner)[method])), arguments)
+
+
+if __name__ == "__main__":
+    unittest.main()

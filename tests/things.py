@@ -1,0 +1,103 @@
+"""What the tests hand in: nets, and things of every kind that is wrong somewhere."""
+
+import unittest
+
+from backwater.nets import Net
+
+GREAT = 10 ** 40 - 1
+"""The greatest number of forty figures."""
+
+
+class Sly:
+    """Alike to everything, with the hash of a name, so that a careless look-up finds it."""
+
+    def __eq__(self, other):
+        return True
+
+    def __hash__(self):
+        return hash("a")
+
+    def __len__(self):
+        raise AssertionError("asked for its length")
+
+    def __repr__(self):
+        raise AssertionError("asked for its repr")
+
+
+class Mute:
+    """Can be neither compared nor hashed nor shown."""
+
+    __hash__ = None
+
+    def __eq__(self, other):
+        raise AssertionError("compared")
+
+    def __bool__(self):
+        raise AssertionError("asked for its truth")
+
+    def __repr__(self):
+        raise AssertionError("asked for its repr")
+
+
+def deep_list():
+    """A list nested deeper than Python recurses."""
+    deep = []
+    for _ in range(100_000):
+        deep = [deep]
+    return deep
+
+
+NO_NAMES = [
+    None, True, False, 0, 1, -1, GREAT, "", "A", "aB", "a1", "a b", " a", "a ", "a\n", "\n", "a_", "abcdefghi",
+    "a" * 6000, "\u00e4", "\u0430", "\u00aa", b"a", ("a",), ("a", "b"), ((),), frozenset("a"), range(3), Sly(), object, len,
+]
+"""Things that are no NAMES and can be keys of a dict."""
+
+NO_KEYS = [[], ["a"], {}, {"a": 1}, {"a"}, bytearray(b"a"), (["a"],), ([], "a"), Mute(), deep_list()]
+"""Things that are no NAMES and can't be keys of a dict."""
+
+NO_WHOLES = [
+    None, True, False, "", "1", "a", b"1", [], [1], (), (1,), {}, {1: 1}, {1}, frozenset([1]), range(1), object(),
+    Sly(), Mute(), int, deep_list(),
+]
+"""Things that are no whole numbers."""
+
+NO_MEASURES = NO_WHOLES + [0, -1, 61, 62, GREAT, -GREAT]
+"""Things that are neither brims nor widths."""
+
+NO_COUNTS = NO_WHOLES + [-1, -2, -GREAT]
+"""Things that are no whole numbers from 0 on."""
+
+NO_DICTS = [
+    True, False, 0, 1, "", "a", b"", [], [("a", 4)], (), ("a",), {"a"}, set(), frozenset(), range(0), object(), Sly(),
+    Mute(), dict, Net({}), Net({"a": 4}), deep_list(),
+]
+"""Things that are neither dicts nor None."""
+
+TWELVE = "abcdefghijkl"
+THIRTEEN = "abcdefghijklm"
+
+
+class ThingsTestCase(unittest.TestCase):
+    """Says of a refusal which class it has to have, and which fields."""
+
+    def refused(self, error, call, *args, **fields_and_names):
+        """Call with args, and with named= for names; the rest are the fields of the error."""
+        named = fields_and_names.pop("named", {})
+        with self.assertRaises(error) as caught:
+            call(*args, **named)
+        self.assertEqual(caught.exception.__class__.__name__, error.__name__)
+        for field, value in fields_and_names.items():
+            told = getattr(caught.exception, field)
+            if told is value:
+                continue
+            # Sly things are alike to everything, so what is told has to be of the very same kind.
+            self.assertEqual(told.__class__.__name__, value.__class__.__name__)
+            self.assertEqual(told, value)
+        return caught.exception
+
+    def told_true(self, told):
+        self.assertIs(told, True)
+
+    def told_false(self, told):
+        self.assertIs(told, False)
