@@ -1,7 +1,7 @@
 """Every refusal of the program, each with the fields that tell what was refused.
 
-A message shows a field only where that is a NAME or a number for certain: what may be
-anything stays in the field, since it might not let itself be shown.
+A message shows a field only where that is a NAME or a small number for certain: what may be
+anything, and a number of any size, stays in the field, since it might not let itself be shown.
 """
 
 
@@ -127,7 +127,7 @@ class CantSpill(StandError):
     """A pond that can't spill so many times."""
 
     def __init__(self, name, most):
-        super().__init__(f"pond {name} can spill {most} times at most")
+        super().__init__(f"pond {name} can't spill so many times")
         self.name = name
         self.most = most
 
@@ -148,7 +148,7 @@ class CantUnspill(StandError):
     """A lot that can't be unspilled so many times."""
 
     def __init__(self, most):
-        super().__init__(f"the lot can be unspilled {most} times at most")
+        super().__init__("the lot can't be unspilled so many times")
         self.most = most
 
 

@@ -140,6 +140,12 @@ class FormTest(unittest.TestCase):
         }
         self.assertEqual(methods & stored, set())
 
+    def test_no_generator_where_a_list_is_wanted(self):
+        for place, node in nodes():
+            if isinstance(node, ast.Call) and getattr(node.func, "id", "") in ("any", "all", "min", "max", "sum", "sorted"):
+                for given in node.args:
+                    self.assertNotIsInstance(given, ast.GeneratorExp, place)
+
     def test_no_lambda_default_star_or_decorator_beyond_the_rules(self):
         for place, node in nodes():
             if isinstance(node, ast.arguments):

@@ -16,6 +16,27 @@ FUNCTIONS = {
         "with_pond": "(net, name, *, brim=4)",
         "without_pond": "(net, name)",
     },
+    "spills": {
+        "most_spills": "(stand, name)",
+        "can_spill": "(stand, name, times=1)",
+        "spilling": "(stand)",
+        "at_rest": "(stand)",
+        "spilled": "(stand, name, times=1)",
+        "soaked": "(stand)",
+    },
+    "rests": {
+        "rested": "(stand)",
+        "dry": "(stand)",
+        "settled": "(stand)",
+        "is_quiet": "(net, poured, counts)",
+    },
+    "shares": {"shares": "(net, poured)"},
+    "lots": {
+        "most_unspills": "(stand, lot)",
+        "can_unspill": "(stand, lot, times=1)",
+        "unspilled": "(stand, lot, times=1)",
+        "greatest_lot": "(stand, *, without=())",
+    },
 }
 
 METHODS = {

@@ -68,11 +68,22 @@ NO_MEASURES = NO_WHOLES + [0, -1, 61, 62, GREAT, -GREAT]
 NO_COUNTS = NO_WHOLES + [-1, -2, -GREAT]
 """Things that are no whole numbers from 0 on."""
 
+NO_TIMES = NO_WHOLES + [0, -1, -2, -GREAT]
+"""Things that are no whole numbers from 1 on."""
+
 NO_DICTS = [
     True, False, 0, 1, "", "a", b"", [], [("a", 4)], (), ("a",), {"a"}, set(), frozenset(), range(0), object(), Sly(),
     Mute(), dict, Net({}), Net({"a": 4}), deep_list(),
 ]
 """Things that are neither dicts nor None."""
+
+NO_LOTS = [
+    None, True, False, 0, 1, "", "a", "ab", b"a", {}, {"a": 1}, {"a"}, frozenset("a"), range(1), object(), Sly(), Mute(),
+    list, Net({"a": 4}), [], (), [None], [True], [0], [""], ["A"], ["x"], ["ab"], ["a", "x"], ["x", "a"], ["a", "a"],
+    ["a", "b", "a"], ("b", "b"), [["a"]], [("a",)], [["a"], "b"], ["a", None], ["a", 1], ["a", {}], [{"a": 1}], [b"a"],
+    ["a", Sly()], [Sly()], ["a", Mute()], [Mute(), "a"], deep_list(), [deep_list()], ("a", deep_list()),
+]
+"""Things that are no lots of a net whose ponds are a, b and c, or a and b."""
 
 TWELVE = "abcdefghijkl"
 THIRTEEN = "abcdefghijklm"
