@@ -46,6 +46,16 @@ def comes_in(pipes, name):
     return sum([pipes[pair] for pair in pipes if pair[1] == name])
 
 
+def pipes_out(pipes, name):
+    """The pipes out of a pond, as tuples of the pond they lead to and the width."""
+    return [(other, pipes[(one, other)]) for one, other in pipes if one == name]
+
+
+def pipes_in(pipes, name):
+    """The pipes into a pond, as tuples of the pond they come from and the width."""
+    return [(one, pipes[(one, other)]) for one, other in pipes if other == name]
+
+
 def steps_out(brims, pipes):
     """A dict from each pond from which a way out leads to how many pipes the shortest one has."""
     steps = {name: 0 for name in brims if goes_out(pipes, name) < brims[name]}
@@ -109,6 +119,9 @@ class Net:
         # Kept sorted, so that nets that are alike answer alike, in whatever order they were made.
         self.brim_by_pond = {name: brims[name] for name in sorted(brims)}
         self.width_by_pair = {(one, other): laid[(one, other)] for one, other in sorted(laid)}
+        # Kept by pond, too, since every reckoning of water asks for them again and again.
+        self.outs_by_pond = {name: pipes_out(self.width_by_pair, name) for name in self.brim_by_pond}
+        self.ins_by_pond = {name: pipes_in(self.width_by_pair, name) for name in self.brim_by_pond}
 
     def has_pond(self, thing):
         """Whether a thing of any kind is a pond of this net."""
@@ -142,12 +155,12 @@ class Net:
     def outs(self, name):
         """The pipes out of a pond, as sorted tuples of the pond they lead to and the width."""
         self.check_pond(name)
-        return [(pair[1], self.width_by_pair[pair]) for pair in self.width_by_pair if pair[0] == name]
+        return list(self.outs_by_pond[name])
 
     def ins(self, name):
         """The pipes into a pond, as sorted tuples of the pond they come from and the width."""
         self.check_pond(name)
-        return [(pair[0], self.width_by_pair[pair]) for pair in self.width_by_pair if pair[1] == name]
+        return list(self.ins_by_pond[name])
 
     def brims(self):
         """A dict from each pond to its brim."""

@@ -87,6 +87,17 @@ def union_of_lots(net, poured, counts, without=()):
     return sorted({name for lot in lots_of(names) if can_be_unspilled(net, poured, counts, lot) for name in lot})
 
 
+def tells_why(net, poured, counts, row):
+    """Point 16's words of a row of ponds."""
+    if full_ponds(net, poured, counts) or sorted(row) != sorted(name for name in net.brims() if counts.get(name, 0) > 0):
+        return False
+    waters = waters_of(net, poured, counts)
+    pipes = net.pipes()
+    return all(
+        waters[name] >= sum(pipes.get((other, name), 0) for other in row[at + 1:]) for at, name in enumerate(row)
+    )
+
+
 def unneeded(net, poured, counts, low):
     """Ponds above low whose counts could be one less together; none just where counts are the least quiet ones.
 

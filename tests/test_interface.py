@@ -4,7 +4,7 @@ import importlib
 import inspect
 import unittest
 
-CONSTANTS = {"nets": {"MOST_PONDS": 12, "MOST_BRIM": 60, "BRIM": 4, "WIDTH": 1}}
+CONSTANTS = {"nets": {"MOST_PONDS": 12, "MOST_BRIM": 60, "BRIM": 4, "WIDTH": 1}, "basins": {"MOST_POURS": 60}}
 
 FUNCTIONS = {
     "nets": {"is_name": "(thing)"},
@@ -37,6 +37,15 @@ FUNCTIONS = {
         "unspilled": "(stand, lot, times=1)",
         "greatest_lot": "(stand, *, without=())",
     },
+    "whys": {
+        "row_of_why": "(stand)",
+        "is_row_of_why": "(stand, row)",
+        "is_settled": "(stand)",
+        "paper": "(stand)",
+        "holds": "(stand, paper)",
+    },
+    "downs": {"over": "(stand)", "way_down": "(stand)"},
+    "plays": {"moves": "(stand)", "moved": "(stand, move)", "played": "(stand, picks)"},
 }
 
 METHODS = {
@@ -65,6 +74,29 @@ METHODS = {
         "waters": "(self)",
         "__eq__": "(self, other)",
         "__repr__": "(self)",
+    },
+    ("basins", "Basin"): {
+        "__init__": "(self, net=None)",
+        "net": "(self)",
+        "pours": "(self)",
+        "stand": "(self)",
+        "counts": "(self)",
+        "waters": "(self)",
+        "pour": "(self, name, pond, amount)",
+        "back": "(self, name)",
+        "dig": "(self, pond, *, brim=4)",
+        "fill": "(self, pond)",
+        "brim": "(self, pond, brim)",
+        "pipe": "(self, one, other, *, width=1)",
+        "cut": "(self, one, other)",
+        "become": "(self, net, pours)",
+        "spill": "(self, pond, times=1)",
+        "unspill": "(self, lot, times=1)",
+        "rest": "(self)",
+        "settle": "(self)",
+        "copied": "(self)",
+        "__eq__": "(self, other)",
+        "__len__": "(self)",
     },
 }
 

@@ -85,6 +85,36 @@ NO_LOTS = [
 ]
 """Things that are no lots of a net whose ponds are a, b and c, or a and b."""
 
+NO_PAPERS = [
+    None, True, False, 0, 1, "", "spill", "spill b", b"spill", [], (), ["spill", "b"], ["settled", []], ("spill",),
+    ("settled",), ("spill", "b", "b"), ("settled", [], []), ("spill", None), ("spill", ["b"]), ("spill", ("b",)),
+    ("spill", "x"), ("spill", ""), ("spill", True), ("spill", {}), ("unspill", "a"), ("unspill", "ab"), ("unspill", []),
+    ("unspill", None), ("unspill", ["a", "a"]), ("unspill", ["x"]), ("unspill", {"a": 1}), ("settled", None),
+    ("settled", "a"), ("settled", {}), ("settled", ["x"]), ("settled", ["a", "a"]), ("settled", True), ("rest", []),
+    (None, "b"), (True, "b"), (0, []), ([], []), ({}, []), (("settled",), []), (b"settled", []), ("b", "spill"),
+    {"spill": "b"}, {"settled": []}, frozenset(["spill", "b"]), range(2), object(), Sly(), Mute(), (Sly(), "b"),
+    (Mute(), "b"), (Sly(), []), (Mute(), []), ("spill", Sly()), ("spill", Mute()), ("unspill", Sly()),
+    ("unspill", Mute()), ("unspill", [Sly()]), ("settled", Sly()), ("settled", Mute()), ("settled", [Mute()]),
+    deep_list(), ("settled", deep_list()), ("unspill", [deep_list()]), (deep_list(), []), Net({}), tuple, "ab",
+]
+"""Things that are no papers of any stand."""
+
+NO_POURS = [
+    None, True, False, 0, 1, "", "p", b"p", {}, {"p": ("a", 1)}, {("p", "a", 1)}, range(0), object(), Sly(), Mute(), list,
+    deep_list(), ("p", "a", 1), ["p", "a", 1], [None], [True], [0], [""], ["pa1"], [()], [("p",)], [("p", "a")],
+    [("p", "a", 1, 1)], [["p", "a", 1]], [{"p": 1, "a": 1, "x": 1}], [("p", "a", 1), None], [("p", "a", 1), ["q", "a", 1]],
+    [("p", "a", 1), ("q", "a")], [("p", "a", 1), [("q", "a", 1)]], ([],), ((("p", "a", 1),),), [Sly()], [Mute()],
+    [("p", "a", 1), Sly()], [("p", "a", 1), Mute()], [deep_list()], [{"p", "a", 1}],
+]
+"""Things that are no lists of tuples of three things."""
+
+NO_PICKS = [
+    None, True, False, 0, 1, GREAT, "", "0", b"", b"0", {}, {0: 0}, {0}, set(), frozenset([0]), range(0), range(2),
+    object(), Sly(), Mute(), list, deep_list(), [None], [True], [False], ["0"], [""], [[0]], [(0,)], [{}], [-1], [-GREAT],
+    [0, None], [0, True], [0, -1], (0, "1"), (0, [1]), [b"0"], [Sly()], [Mute()], [0, Sly()], [0, Mute()], [deep_list()],
+]
+"""Things that are no lists of whole numbers from 0 on."""
+
 TWELVE = "abcdefghijkl"
 THIRTEEN = "abcdefghijklm"
 
