@@ -1,7 +1,7 @@
 """Stands: a net, and for each pond how much is poured and how often it has spilled."""
 
 from backwater.errors import BadCount, BadPoured
-from backwater.wholes import is_whole
+from backwater.wholes import figures, is_whole
 
 
 def wrong_keys(net, table):
@@ -21,6 +21,11 @@ def for_all_ponds(net, table):
     if table is None:
         return {name: 0 for name in net.ponds()}
     return {name: table.get(name, 0) for name in net.ponds()}
+
+
+def shown(table):
+    """A dict from ponds to numbers, as repr shows it, however great the numbers."""
+    return "{" + ", ".join([f"{name!r}: {figures(table[name])}" for name in table]) + "}"
 
 
 class Stand:
@@ -73,4 +78,4 @@ class Stand:
                 and self.poured_by_pond == other.poured_by_pond and self.count_by_pond == other.count_by_pond)
 
     def __repr__(self):
-        return f"Stand({self.own_net!r}, {self.poured_by_pond!r}, {self.count_by_pond!r})"
+        return f"Stand({self.own_net!r}, {shown(self.poured_by_pond)}, {shown(self.count_by_pond)})"

@@ -87,6 +87,31 @@ def union_of_lots(net, poured, counts, without=()):
     return sorted({name for lot in lots_of(names) if can_be_unspilled(net, poured, counts, lot) for name in lot})
 
 
+def plain_moves(net, poured, counts):
+    """Point 21's words, over all lots."""
+    full = full_ponds(net, poured, counts)
+    if full:
+        return [("spill", name) for name in full]
+    lots = []
+    for without in [[], *[[name] for name in net.brims()]]:
+        lot = union_of_lots(net, poured, counts, without)
+        if lot and lot not in lots:
+            lots.append(lot)
+    return sorted(("unspill", lot) for lot in lots)
+
+
+def plain_way(above):
+    """Point 20's way down of ponds that are so much over, step by step."""
+    left, way = dict(above), []
+    while any(left.values()):
+        most = max(left.values())
+        lot = sorted(name for name in left if left[name] == most)
+        times = most - max((many for many in left.values() if many < most), default=0)
+        left.update({name: most - times for name in lot})
+        way.append((lot, times))
+    return way
+
+
 def tells_why(net, poured, counts, row):
     """Point 16's words of a row of ponds."""
     if full_ponds(net, poured, counts) or sorted(row) != sorted(name for name in net.brims() if counts.get(name, 0) > 0):

@@ -10,7 +10,7 @@ from backwater.nets import Net
 from backwater.rests import rested, settled
 from backwater.stands import Stand
 from tests.plain import (
-    can_be_unspilled, full_ponds, large_nets, large_stands, rested_one_by_one, ring, small_stands,
+    can_be_unspilled, full_ponds, large_nets, large_stands, plain_way, rested_one_by_one, ring, small_stands,
 )
 from tests.things import GREAT, TWELVE, ThingsTestCase
 
@@ -104,6 +104,7 @@ class WalkTestCase(ThingsTestCase):
         above = {name: count - least[name] for name, count in stand.counts().items()}
         self.assertEqual(over(stand), above)
         way = way_down(stand)
+        self.assertEqual(way, plain_way(above))
         self.assertLessEqual(len(way), len(above))
         left = dict(above)
         for lot, times in way:

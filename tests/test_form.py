@@ -43,6 +43,8 @@ def bound_names(node):
         return [node.name]
     if isinstance(node, ast.arg):
         return [node.arg]
+    if isinstance(node, ast.ExceptHandler):
+        return [node.name] if node.name else []
     if isinstance(node, ast.Name) and isinstance(node.ctx, ast.Store):
         return [node.id]
     if isinstance(node, ast.Attribute) and isinstance(node.ctx, ast.Store):

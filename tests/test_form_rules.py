@@ -116,7 +116,8 @@ class RulesTest(unittest.TestCase):
             taken |= {node.name for node in tree.body if isinstance(node, ast.ClassDef)} | BUILTINS
             for top in tree.body:
                 for node in ast.walk(top):
-                    if isinstance(node, ast.arg) or isinstance(node, ast.Name) and isinstance(node.ctx, ast.Store):
+                    local = isinstance(node, (ast.arg, ast.ExceptHandler))
+                    if local or isinstance(node, ast.Name) and isinstance(node.ctx, ast.Store):
                         self.assertFalse(set(bound_names(node)) & taken, f"{path.name}:{node.lineno}")
 
     def test_l15_tables_at_module_level_are_only_read(self):

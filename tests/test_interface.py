@@ -46,6 +46,8 @@ FUNCTIONS = {
     },
     "downs": {"over": "(stand)", "way_down": "(stand)"},
     "plays": {"moves": "(stand)", "moved": "(stand, move)", "played": "(stand, picks)"},
+    "texts": {"basin_text": "(basin)", "read_basin": "(text)"},
+    "lines": {"stand_line": "(stand)", "paper_line": "(paper)", "way_line": "(way)"},
 }
 
 METHODS = {
@@ -97,6 +99,23 @@ METHODS = {
         "copied": "(self)",
         "__eq__": "(self, other)",
         "__len__": "(self)",
+    },
+    ("histories", "History"): {
+        "__init__": "(self)",
+        "do": "(self, deed)",
+        "deeds": "(self)",
+        "basin": "(self)",
+        "without": "(self, at)",
+        "lift": "(self, at)",
+        "__len__": "(self)",
+    },
+    ("desk", "Desk"): {
+        "__init__": "(self)",
+        "say": "(self, row)",
+        "say_all": "(self, rows)",
+        "journal": "(self)",
+        "at_work": "(self)",
+        "basin": "(self, name)",
     },
 }
 

@@ -10,7 +10,7 @@ from backwater.plays import moved, moves, played
 from backwater.rests import rested, settled
 from backwater.spills import spilled
 from backwater.stands import Stand
-from tests.plain import full_ponds, large_nets, large_stands, ring, small_stands, union_of_lots, unneeded
+from tests.plain import large_nets, large_stands, plain_moves, ring, small_stands, unneeded
 from tests.things import GREAT, NO_KEYS, NO_LOTS, NO_NAMES, NO_PICKS, TWELVE, ThingsTestCase
 
 NET = Net({name: 4 for name in "dcba"})
@@ -166,17 +166,7 @@ class OwnTest(ThingsTestCase):
 
 class PlainTest(ThingsTestCase):
     def plain_moves(self, stand):
-        """Point 21's words, over all lots."""
-        net, poured, counts = stand.net(), stand.pours(), stand.counts()
-        full_now = full_ponds(net, poured, counts)
-        if full_now:
-            return [("spill", name) for name in full_now]
-        lots = []
-        for without in [[], *[[name] for name in net.ponds()]]:
-            lot = union_of_lots(net, poured, counts, without)
-            if lot and lot not in lots:
-                lots.append(lot)
-        return sorted(("unspill", lot) for lot in lots)
+        return plain_moves(stand.net(), stand.pours(), stand.counts())
 
     def test_moves_against_all_greatest_lots(self):
         several = 0

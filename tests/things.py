@@ -115,6 +115,24 @@ NO_PICKS = [
 ]
 """Things that are no lists of whole numbers from 0 on."""
 
+NO_TEXTS = [
+    None, True, False, 0, 1, GREAT, b"", b"pond a 4 0", [], ["pond a 4 0"], (), ("",), {}, {"a": 1}, {""}, frozenset(),
+    range(0), object(), Sly(), Mute(), str, deep_list(), Net({}), [""], bytearray(b""), len,
+]
+"""Things that are no texts."""
+
+NO_DEEDS = [
+    None, True, False, 0, 1, GREAT, "", "rest", b"rest", [], ["rest"], ["back", "p"], (), {}, {"rest"}, {"rest": 1}, range(1),
+    frozenset(["rest"]), object(), Sly(), Mute(), tuple, deep_list(), (None,), (True,), (0,), ("",), ("Rest",), ("rest ",),
+    (("rest",),), (["rest"],), ({},), (b"rest",), (Sly(),), (Mute(),), (deep_list(),), ("rest", None), ("rest", "a"),
+    ("settle", 1), ("become",), ("become", Net({}), []), ("copied",), ("play",), ("line",), ("pour",), ("pour", "p", "a"),
+    ("pour", "p", "a", 1, 1), ("back",), ("back", "p", "p"), ("dig", "z"), ("dig", "z", 4, 4), ("fill",), ("fill", "a", "a"),
+    ("brim", "a"), ("brim", "a", 4, 4), ("pipe", "a", "b"), ("pipe", "a", "b", 1, 1), ("cut", "a"), ("cut", "a", "b", 1),
+    ("spill", "a"), ("spill", "a", 1, 1), ("unspill", ["a"]), ("unspill", "a", "b", 1), ("p", "back"), (Sly(), "p"),
+    (Mute(), "p"), (None, "p"), (["back"], "p"), ({"back": 1}, "p"), (deep_list(), "p"),
+]
+"""Things that are no deeds."""
+
 TWELVE = "abcdefghijkl"
 THIRTEEN = "abcdefghijklm"
 
